@@ -7,6 +7,7 @@ import (
 
 	"furcate/api"
 	"furcate/check"
+	"furcate/source"
 )
 
 // Maker picks from what may stand at a place.
@@ -54,7 +55,7 @@ func (m *Maker) Inputs(most int) []int {
 
 // Value tells one of a type, or sometimes of another one.
 func (m *Maker) Value(t int) api.Value {
-	if m.Pick(8) == 0 {
+	if m.Pick(16) == 0 {
 		t = m.Pick(5)
 	}
 	v := api.Value{Type: t}
@@ -69,26 +70,31 @@ func (m *Maker) Value(t int) api.Value {
 	return v
 }
 
-// Edits tells up to so many, most of them of names and types that the program has.
-func (m *Maker) Edits(p api.Prog, most, upto int) []api.Edit {
+// Edits tells up to so many, of times below upto; most of them can be set.
+func (m *Maker) Edits(p api.Prog, inputs []int, most, upto int) []api.Edit {
 	var out []api.Edit
-	at := 0
-	for range m.Pick(most + 1) {
-		at += m.Pick(upto)
-		n := p.Tree.Nodes[m.Pick(len(p.Tree.Nodes))]
-		for range 40 {
-			if n.Kind == api.NLet {
-				break
-			}
-			n = p.Tree.Nodes[m.Pick(len(p.Tree.Nodes))]
+	s := source.Start(p)
+	for at := range upto {
+		for len(out) < most && m.Pick(4) == 0 {
+			x := m.edit(check.Visible(p, source.Next(p, s)))
+			x.At = at
+			out = append(out, x)
+			s, _ = source.Set(p, s, x.Name, x.V)
 		}
-		t := api.TyInt
-		if n.Kind == api.NLet {
-			t = p.Types[n.L[0]]
-		}
-		out = append(out, api.Edit{At: at, Name: n.Name, V: m.Value(t)})
+		s = source.Step(p, s, inputs)
 	}
 	return out
+}
+
+func (m *Maker) edit(visible []api.Var) api.Edit {
+	if len(visible) == 0 || m.Pick(20) == 0 {
+		return api.Edit{Name: m.one("v0", "v1", "p0"), V: m.Value(api.TyInt)}
+	}
+	x := visible[m.Pick(len(visible))]
+	if x.Type == api.TyList {
+		x = visible[m.Pick(len(visible))]
+	}
+	return api.Edit{Name: x.Name, V: m.Value(x.Type)}
 }
 
 func (m *Maker) one(l ...string) string { return l[m.Pick(len(l))] }
