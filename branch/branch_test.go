@@ -159,6 +159,10 @@ func TestAdd(t *testing.T) {
 	if e != api.OK || !same(got, want) {
 		t.Error(got, e)
 	}
+	got.Inputs[0], got.Base[0].At, got.Own[0].At = 99, 99, 99
+	if from.Inputs[0] != 1 || from.Base[0].At != 3 || from.Own[0].At != 1 {
+		t.Error("shared with what was handed in")
+	}
 	eight := api.Branch{Base: many(3, set(1, "a", 1)), Own: many(5, set(1, "a", 1))}
 	for _, c := range []struct {
 		b api.Branch

@@ -152,6 +152,10 @@ func TestTake(t *testing.T) {
 		{slices.Concat([]byte{0}, size(1), []byte{5}, []byte{255, 0, 0, 0, 0, 0, 0, 0}), api.ErrShort},
 		{slices.Concat([]byte{0}, size(1), []byte{5}, head, []byte{255, 0, 0, 0, 0, 0, 0, 0}), api.ErrCorrupt},
 		{slices.Concat([]byte{0}, size(1), []byte{23, 23}), api.ErrCorrupt},
+		{make([]byte, 9), api.OK}, {make([]byte, 10), api.ErrCorrupt},
+		{slices.Concat([]byte{1}, head, head), api.OK},
+		{slices.Concat([]byte{2}, size(1), head, size(1), []byte{23}), api.OK},
+		{slices.Concat([]byte{2}, size(1), size(2), size(1), []byte{23}), api.ErrCorrupt},
 		{slices.Concat([]byte{0}, size(1), []byte{23}), api.OK},
 		{slices.Concat([]byte{0}, size(2), []byte{23}), api.ErrShort},
 	} {

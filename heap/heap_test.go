@@ -69,20 +69,21 @@ func TestGetPut(t *testing.T) {
 func TestApart(t *testing.T) {
 	h := New()
 	h.Make(2)
+	h.Put(1, 1, 4)
 	c := h.Clone()
 	h.Put(1, 0, 1)
 	c.Put(1, 0, 2)
 	h.Make(1)
 	c.Make(2)
 	h.Put(2, 0, 3)
-	if !reflect.DeepEqual(h.Lists(), [][]int{{1, 0}, {3}}) || !reflect.DeepEqual(c.Lists(), [][]int{{2, 0}, {0, 0}}) {
+	if !reflect.DeepEqual(h.Lists(), [][]int{{1, 4}, {3}}) || !reflect.DeepEqual(c.Lists(), [][]int{{2, 4}, {0, 0}}) {
 		t.Error(h.Lists(), c.Lists())
 	}
 	l := h.Lists()
 	l[0][0] = 9
 	l[0] = append(l[0], 9)
 	l = append(l[:1], []int{5})
-	if !reflect.DeepEqual(h.Lists(), [][]int{{1, 0}, {3}}) || len(l) != 2 {
+	if !reflect.DeepEqual(h.Lists(), [][]int{{1, 4}, {3}}) || len(l) != 2 {
 		t.Error(h.Lists())
 	}
 }

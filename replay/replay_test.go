@@ -203,7 +203,20 @@ func TestOwn(t *testing.T) {
 	for i := range p.Tree.Nodes {
 		p.Tree.Nodes[i].Kind, p.Types[i] = 0, 0
 	}
-	if s, bad := r.Seek(4); bad != 0 || s.Calls[0].Slots[1].N != 13 {
+	for i := range p.Tree.Fns {
+		p.Tree.Fns[i].Body = 0
+	}
+	r.Change([]int{3, 4}, []api.Edit{{At: 2, Name: "b", V: value.Int(11)}}, 0)
+	if s, bad := r.Seek(4); bad != 0 || s.Calls[0].Slots[1].N != 14 {
 		t.Error(s, bad)
+	}
+}
+
+// R1: a replay that no one made new has nothing to go to.
+func TestNought(t *testing.T) {
+	r := &Replay{}
+	r.Change(nil, nil, 3)
+	if s, bad := r.Seek(5); bad != 0 || len(s.Calls) != 0 || r.Cost() != 0 || len(r.Times()) != 0 {
+		t.Error("nought")
 	}
 }

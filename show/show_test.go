@@ -79,6 +79,8 @@ func TestExpr(t *testing.T) {
 		"a&&(b&&(c))":              "a&&(b&&c)",
 		"(a<b)&&(!(c))":            "a<b&&!c",
 		"(a<b)+c":                  "(a<b)+c",
+		"len((a||b))":              "len(a||b)",
+		"new((a||b))":              "new(a||b)",
 		"input":                    "input",
 		"new ( 1 + 2 )":            "new(1+2)",
 		"f ( )":                    "f()",

@@ -22,6 +22,21 @@ func prog(t *testing.T, src string) api.Prog {
 
 func inMain(body string) string { return "fn main(){" + body + "}" }
 
+// own is a state that shares nothing.
+func own(s api.State) api.State {
+	out := api.State{In: s.In, Status: s.Status, Trap: s.Trap, Time: s.Time}
+	for _, f := range s.Frames {
+		out.Frames = append(out.Frames, api.Frame{Fn: f.Fn, Slots: append([]api.Value{}, f.Slots...), Path: append([]api.Place{}, f.Path...)})
+	}
+	for _, l := range s.Heap {
+		out.Heap = append(out.Heap, append([]int{}, l...))
+	}
+	for _, text := range s.Out {
+		out.Out = append(out.Out, text)
+	}
+	return out
+}
+
 // line is the line at which the top is, or 0.
 func line(p api.Prog, s api.State) int {
 	if at := Next(p, s); at >= 0 {
@@ -67,12 +82,12 @@ func TestSet(t *testing.T) {
 		{"a", value.Bool(true), -1}, {"a", api.Value{}, -1}, {"b", api.Value{Type: api.TyBool, N: 2}, -1}, {"l", api.Value{Type: api.TyList, N: 1}, -1},
 		{"l", value.Int(1), -1}, {"c", value.Int(1), -1}, {"q", value.Int(1), -1}, {"", value.Int(1), -1}, {"s", value.Text(strings.Repeat("x", 41)), -1},
 	} {
-		before := clone(s)
+		before := own(s)
 		got, ok := Set(p, s, c.name, c.v)
 		if !reflect.DeepEqual(s, before) || ok != (c.slot >= 0) {
 			t.Errorf("%v: %v", c, ok)
 		}
-		want := clone(s)
+		want := own(s)
 		if ok {
 			want.Frames[0].Slots[c.slot] = c.v
 		}
@@ -165,10 +180,14 @@ func TestTrapKeepsAll(t *testing.T) {
 	p := prog(t, "fn f(a int){let l=new(1);l[0]=1/a;}fn main(){let x=1;f(0);}")
 	before := Run(p, nil, 3)
 	after := Step(p, before, nil)
-	want := clone(before)
+	want := own(before)
 	want.Status, want.Trap, want.Time = api.Falls, api.TrapDiv, 4
 	if !reflect.DeepEqual(after, want) || Next(p, after) != -1 {
 		t.Errorf("%+v", after)
+	}
+	after.Heap[0][0], after.Frames[0].Slots[0].N = 99, 99
+	if before.Heap[0][0] != 0 || before.Frames[0].Slots[0].N != 1 {
+		t.Error("what falls shares with what it was")
 	}
 }
 
@@ -178,10 +197,15 @@ func TestWaits(t *testing.T) {
 	inputs := []int{9}
 	s := Run(p, inputs, 1)
 	w := Step(p, s, inputs)
-	want := clone(s)
+	want := own(s)
 	want.Status = api.Waits
 	if !reflect.DeepEqual(w, want) || Next(p, w) != Next(p, s) || w.Time != 1 {
 		t.Errorf("%+v", w)
+	}
+	other := Step(p, s, inputs)
+	other.Frames[0].Slots[0].N = 99
+	if s.Frames[0].Slots[0].N != 9 {
+		t.Error("what waits shares with what it was")
 	}
 	s = Step(p, w, append(inputs, 2))
 	if s.Status != api.Runs || s.In != 2 || s.Time != 2 {
@@ -255,7 +279,7 @@ func TestOnward(t *testing.T) {
 	p := prog(t, "fn f(l list,n int){l[n]=n;let m=new(n);if 0<n{f(m,n-1);}print l[n];}fn main(){let l=new(4);f(l,3);print l[3];}")
 	s := Start(p)
 	for s.Status == api.Runs {
-		before := clone(s)
+		before := own(s)
 		next := Step(p, s, nil)
 		if !reflect.DeepEqual(s, before) {
 			t.Fatalf("changed: %+v", s)
@@ -263,7 +287,27 @@ func TestOnward(t *testing.T) {
 		if len(next.Heap) < len(s.Heap) || len(next.Out) < len(s.Out) || !slices.Equal(next.Out[:len(s.Out)], s.Out) {
 			t.Fatalf("%+v", next)
 		}
-		s = next
+		// Nor by what is done of the state that was told.
+		for i := range next.Frames {
+			next.Frames[i].Fn = 9
+			next.Frames[i].Slots[0].N = 99
+			next.Frames[i].Path[0].At = 99
+		}
+		for i := range next.Heap {
+			next.Heap[i] = append(next.Heap[i], 99)
+			next.Heap[i][0] = 99
+		}
+		for i := range next.Out {
+			next.Out[i] = "none"
+		}
+		next, _ = Set(p, s, "q", value.Int(1))
+		for i := range next.Heap {
+			next.Heap[i] = nil
+		}
+		if !reflect.DeepEqual(s, before) {
+			t.Fatalf("changed: %+v", s)
+		}
+		s = Step(p, s, nil)
 	}
 	if s.Status != api.Ends || !slices.Equal(s.Out, []string{"0", "1", "2", "3", "3"}) || len(s.Heap) != 5 {
 		t.Errorf("%+v", s)

@@ -218,6 +218,28 @@ func TestClone(t *testing.T) {
 	}
 }
 
+// R7: nor has a clone what the other one prints later.
+func TestCloneOut(t *testing.T) {
+	m := New(prog(t, "fn main(){let a=1;while true{print a;}}"))
+	for i := range 40 {
+		m.Step(nil)
+		c := m.Clone()
+		c.Set(0, value.Int(2))
+		before := m.State()
+		for range 4 {
+			c.Step(nil)
+		}
+		other := m.Clone()
+		other.Set(0, value.Int(3))
+		for range 4 {
+			other.Step(nil)
+		}
+		if got, at := c.State().Out, len(before.Out); !same(m.State(), before) || at < len(got) && got[at] != "2" {
+			t.Fatal(i, got)
+		}
+	}
+}
+
 // R1: a machine that no one made new does nothing.
 func TestNought(t *testing.T) {
 	m := &Machine{}
