@@ -61,10 +61,12 @@ func TestOf(t *testing.T) {
 		{"at main 2 a=1|in 0 runs", "at main 2 a=1 a=2|in 0 runs", "0 vars"},
 		{"at main 2 a=1 a=2|in 0 runs", "at main 2 a=1|in 0 runs", "0 a 2 | 1"},
 		{"at main 2 a=2 a=1|in 0 runs", "at main 2 a=1|in 0 runs", "0 a 2 | 1"},
-		{"at main 2 a=1 b=2|in 0 runs", "at main 3 b=2 a=1|in 0 runs", "0 at main 2 | main 3"},
+		{"at main 2 a=1 b=2|in 0 runs", "at main 3 b=2 a=1|in 0 runs", "0 at main 2 | main 3;0 vars"},
 		{"at main 2 a=1 a=2|in 0 runs", "at main 2 a=3 a=4|in 0 runs", "0 a 1 | 3;0 a 2 | 3"},
 		{"at main 2|in 0 runs", "at main 2 a=3 a=4|in 0 runs", "0 a - | 3;0 a - | 4"},
 		// Texts that look like what is not there
+		{"at main 2 a=-|in 0 runs", "in 0 runs", "0 at main 2 | -"},
+		{"in 0 runs", "at main 2 a=-|in 0 runs", "0 at - | main 2;0 a - | -"},
 		{"at main 2 a=-|in 0 runs", "at main 2|in 0 runs", "0 vars"},
 		{"at main 2|in 0 runs", "at main 2 a=-|in 0 runs", "0 a - | -"},
 		{"at main 2 a=-|in 0 runs", "at main 2 a=-|in 0 runs", ""},
