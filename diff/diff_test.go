@@ -61,7 +61,16 @@ func TestOf(t *testing.T) {
 		{"at main 2 a=1|in 0 runs", "at main 2 a=1 a=2|in 0 runs", "0 vars"},
 		{"at main 2 a=1 a=2|in 0 runs", "at main 2 a=1|in 0 runs", "0 a 2 | 1"},
 		{"at main 2 a=2 a=1|in 0 runs", "at main 2 a=1|in 0 runs", "0 a 2 | 1"},
-		{"at main 2 a=1 b=2|in 0 runs", "at main 3 b=2 a=1|in 0 runs", "0 at main 2 | main 3;0 vars"},
+		// a call that is told by another line of its own has no line of its variables' order
+		{"at main 2 a=1 b=2|in 0 runs", "at main 3 b=2 a=1|in 0 runs", "0 at main 2 | main 3"},
+		{"at f 2 a=1 b=2|in 0 runs", "at g 2 b=2 a=1|in 0 runs", "0 at f 2 | g 2"},
+		{"at main 2 a=-|in 0 runs", "at main 3|in 0 runs", "0 at main 2 | main 3"},
+		{"at main 2 a=1|in 0 runs", "at main 3 a=1 a=2|in 0 runs", "0 at main 2 | main 3"},
+		{"at main 2 a=1 b=2 c=3|in 0 runs", "at main 2 b=2 a=1 c=4|in 0 runs", "0 c 3 | 4"},
+		// another call's lines, and what is unlike beside the calls, keep none from it
+		{"at main 2 a=1 b=2|at f 3 x=1 y=2|in 0 runs", "at main 3 b=2 a=1|at f 3 y=2 x=1|in 0 runs", "0 at main 2 | main 3;1 vars"},
+		{"at main 2 a=1 b=2|at f 3|in 0 runs", "at main 2 b=2 a=1|at f 4|in 0 runs", "0 vars;1 at f 3 | f 4"},
+		{"at main 2 a=1 b=2|out x|in 0 runs", "at main 2 b=2 a=1|out y|in 1 ends", "0 vars;out x | -;out - | y;in 0 | 1;runs | ends"},
 		{"at main 2 a=1 a=2|in 0 runs", "at main 2 a=3 a=4|in 0 runs", "0 a 1 | 3;0 a 2 | 3"},
 		{"at main 2|in 0 runs", "at main 2 a=3 a=4|in 0 runs", "0 a - | 3;0 a - | 4"},
 		// Texts that look like what is not there
@@ -88,6 +97,12 @@ func TestOf(t *testing.T) {
 		if got := strings.Join(Of(seen(c[0]), seen(c[1])), ";"); got != c[2] {
 			t.Errorf("%s and %s: %q, not %q", c[0], c[1], got, c[2])
 		}
+	}
+	// names that are empty
+	one := api.View{Calls: []api.Seen{{Vars: []api.Shown{{Text: "-"}}}}}
+	other := api.View{Calls: []api.Seen{{Line: 1}}}
+	if got := Of(one, other); !slices.Equal(got, []string{"0 at  0 |  1"}) {
+		t.Errorf("%q", got)
 	}
 	if got := Of(api.View{Trap: 1}, api.View{Trap: 2}); !slices.Equal(got, []string{"runs | runs"}) {
 		t.Error(got)
